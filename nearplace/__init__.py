@@ -1,0 +1,1 @@
+"""Nearplace: orders in which each thing stays near its own place."""

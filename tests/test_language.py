@@ -1,0 +1,90 @@
+"""Those rules of the language that can be seen file by file: L1, L2, L8, L10, L12, L14, L16, L17, L20 and L27."""
+
+import ast
+import builtins
+import pathlib
+import re
+import unittest
+
+PACKAGE = pathlib.Path(__file__).resolve().parent.parent / "nearplace"
+FILES = sorted(path for path in PACKAGE.iterdir() if path.name != "__pycache__")
+BUILTINS = set(
+    "len range enumerate zip min max sum abs sorted reversed int str bool bytes list tuple dict set frozenset "
+    "isinstance ord repr any all divmod Exception ValueError TypeError KeyError IndexError LookupError "
+    "ZeroDivisionError ArithmeticError OverflowError RuntimeError NotImplementedError AttributeError StopIteration "
+    "NotImplemented".split()
+)
+WORDS = (
+    "type typing typing_extensions enum Enum IntEnum StrEnum Flag IntFlag Generic Protocol ABC ABCMeta namedtuple "
+    "NamedTuple TypedDict TYPE_CHECKING abstractmethod register mro elements open input version_info"
+).split()
+
+
+def nodes(path):
+    return list(ast.walk(ast.parse(path.read_text())))
+
+
+def names_given(node):
+    """The names to which a node gives a meaning."""
+    if isinstance(node, (ast.FunctionDef, ast.ClassDef)):
+        return [node.name]
+    if isinstance(node, ast.arg):
+        return [node.arg]
+    if isinstance(node, ast.alias):
+        return [node.asname or node.name]
+    if isinstance(node, ast.Name) and not isinstance(node.ctx, ast.Load):
+        return [node.id]
+    return []
+
+
+class Language(unittest.TestCase):
+    def test_files(self):
+        self.assertIn("__init__.py", [path.name for path in FILES])
+        for path in FILES:
+            self.assertRegex(path.name, r"^(__init__|[a-z][a-z0-9_]*)\.py$")
+
+    def test_sizes_and_signs(self):
+        for path in FILES:
+            text = path.read_text()
+            self.assertLessEqual(len(text.splitlines()), 400, path)
+            self.assertTrue(all(len(line) <= 120 for line in text.splitlines()), path)
+            self.assertRegex(text, r"^[ -~\n]*$", path)
+            for node in nodes(path):
+                if isinstance(node, ast.FunctionDef):
+                    self.assertLessEqual(node.end_lineno - node.lineno + 1, 40, node.name)
+
+    def test_words_that_are_not_used(self):
+        for path in FILES:
+            for word in WORDS:
+                self.assertIsNone(re.search(r"\b" + word + r"\b", path.read_text()), (path, word))
+
+    def test_imports(self):
+        for path in FILES:
+            for node in nodes(path):
+                self.assertNotIsInstance(node, ast.Import, path)
+                if isinstance(node, ast.ImportFrom):
+                    self.assertEqual(0, node.level, path)
+                    self.assertIn((PACKAGE / (node.module.removeprefix("nearplace.") + ".py")), FILES, path)
+
+    def test_names(self):
+        for path in FILES:
+            for node in nodes(path):
+                for name in names_given(node):
+                    self.assertRegex(name, r"^[A-Za-z][A-Za-z0-9_]*$", path)
+                    self.assertFalse(hasattr(builtins, name), (path, name))
+                if isinstance(node, ast.Name) and hasattr(builtins, node.id):
+                    self.assertIn(node.id, BUILTINS, path)
+
+    def test_expressions(self):
+        for path in FILES:
+            for node in nodes(path):
+                self.assertNotIsInstance(node, (ast.Div, ast.Global, ast.AsyncFunctionDef), path)
+                if isinstance(node, ast.Constant):
+                    self.assertNotIsInstance(node.value, (float, complex), path)
+                    self.assertFalse(isinstance(node.value, str) and "%" in node.value, path)
+                if isinstance(node, ast.Compare) and isinstance(node.ops[0], (ast.Is, ast.IsNot)):
+                    self.assertIsInstance(node.comparators[0], ast.Constant, path)
+
+
+if __name__ == "__main__":
+    unittest.main()
