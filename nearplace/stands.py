@@ -26,9 +26,9 @@ def steps_from(reach, stand):
     return [(put, stand_behind(reach, stand, put)) for put in puts]
 
 
-def stands_reached(reach):
+def stands_reached(reach, start):
     seen = set()
-    waiting = [first_stand(reach)]
+    waiting = [start]
     while waiting:
         stand = waiting.pop()
         if stand not in seen:
@@ -37,18 +37,27 @@ def stands_reached(reach):
     return sorted(seen)
 
 
-def row_ahead(reach, row):
-    """The row of ways with one step more."""
-    return {stand: sum([row[behind] for put, behind in steps_from(reach, stand)]) for stand in row}
+def steps_table(reach, start):
+    """The steps of each stand to which steps lead from the start."""
+    return {stand: steps_from(reach, stand) for stand in stands_reached(reach, start)}
 
 
-def ways_rows(reach, end, steps):
-    """Rows 0 to steps: row k has for each stand in how many ways k steps lead from it to the end."""
-    row = {stand: 0 for stand in stands_reached(reach)}
-    row[end] = 1
+def end_row(table, end):
+    """In how many ways no steps lead from each stand to the end."""
+    return {stand: 1 if stand == end else 0 for stand in table}
+
+
+def row_ahead(table, row):
+    """The row of ways with one step more, taken by the table."""
+    return {stand: sum([row[behind] for put, behind in table[stand]]) for stand in table}
+
+
+def ways_rows(tables, row):
+    """A row ahead of each table and the row handed in behind the last: each tells the ways that are left there."""
     rows = [row]
-    while len(rows) <= steps:
-        rows.append(row_ahead(reach, rows[-1]))
+    for table in reversed(tables):
+        rows.append(row_ahead(table, rows[-1]))
+    rows.reverse()
     return rows
 
 
@@ -56,7 +65,7 @@ def is_stand(reach, thing):
     # True and False are equal to 1 and 0, so being equal to a stand is not enough.
     if not isinstance(thing, tuple) or not all(is_whole(item) for item in thing):
         return False
-    return thing in stands_reached(reach)
+    return thing in stands_reached(reach, first_stand(reach))
 
 
 def check_stand(reach, stand):
@@ -75,7 +84,7 @@ def check_many(many):
 
 def all_stands(reach):
     check_reach(reach)
-    return stands_reached(reach)
+    return stands_reached(reach, first_stand(reach))
 
 
 def steps_of(reach, stand):
@@ -89,11 +98,13 @@ def ways_between(reach, one, other, steps):
     check_stand(reach, one)
     check_stand(reach, other)
     check_number(steps, 0, MOST_STEPS)
-    return ways_rows(reach, other, steps)[steps][one]
+    table = steps_table(reach, first_stand(reach))
+    return ways_rows([table] * steps, end_row(table, other))[0][one]
 
 
 def count_orders(many, reach):
     check_reach(reach)
     check_many(many)
     first = first_stand(reach)
-    return ways_rows(reach, first, many)[many][first]
+    table = steps_table(reach, first)
+    return ways_rows([table] * many, end_row(table, first))[0][first]

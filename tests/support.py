@@ -57,6 +57,8 @@ NO_REACHES = ANYTHING + [
     0, 1, 3, (), [], (0,), (0, 1, 2), (0, 0, 0), [0, 0], [1, 1], [3, 3], (-1, 0), (0, -1), (4, 0), (0, 4), (4, 4),
     (3, 10 ** 39), (1, 1, 1), ((1, 1),), [(1, 1)], (True, True), (False, False), (1, "1"), (1, (1,)), range(1, 2),
 ]
+# None of these is a whole number at all.
+NO_WHOLES = [thing for thing in NO_NUMBERS if thing.__class__ is not int]
 
 
 def is_kept(order, reach):
@@ -79,8 +81,8 @@ def kept_orders(many, reach):
     return found
 
 
-def count_by_things(many, reach):
-    """How many orders keep a reach, by the sets of things that stand already (no stands)."""
+def count_by_things(many, reach, lets=lambda thing, place: True):
+    """How many orders keep a reach with things at places that are let, by the sets of things that stand (no stands)."""
     counts = {0: 1}
     for place in range(many):
         after = {}
@@ -88,7 +90,7 @@ def count_by_things(many, reach):
             for thing in range(max(0, place - reach[1]), min(many, place + reach[0] + 1)):
                 behind = mask | 1 << thing
                 late = place - reach[1]
-                if behind != mask and (late < 0 or behind >> late & 1):
+                if behind != mask and (late < 0 or behind >> late & 1) and lets(thing, place):
                     after[behind] = after.get(behind, 0) + count
         counts = after
     return counts.get((1 << many) - 1, 0)
@@ -108,6 +110,8 @@ class Case(unittest.TestCase):
         if isinstance(due, (list, tuple)):
             for one, other in zip(due, told):
                 self.same(one, other)
+        if isinstance(due, dict):
+            self.same(sorted(due.items()), sorted(told.items()))
 
     def stays(self, function, *handed):
         """What is handed in is the same behind the call, and so is what is told when it is asked again."""
@@ -119,8 +123,15 @@ class Case(unittest.TestCase):
         self.same(ahead, handed)
         self.same(kept, function(*handed))
 
+    def no_two_are_one(self, lists):
+        """No list stands twice among these."""
+        self.assertEqual(len(lists), len({id(told) for told in lists}))
+
     def spoil(self, told):
-        """Changes each list in what was told."""
+        """Changes each list and each dict in what was told."""
+        if isinstance(told, dict):
+            told[next(iter(told))] = "spoilt"
+            told["more"] = "spoilt"
         if isinstance(told, (list, tuple)):
             for item in told:
                 self.spoil(item)

@@ -1,4 +1,4 @@
-"""Those rules of the language that can be seen file by file: L1, L2, L8, L10, L12, L14, L16, L17, L20 and L27."""
+"""Those rules of the language that can be seen file by file: L1, L2, L8, L10, L12, L14 to L17, L20 and L27."""
 
 import ast
 import builtins
@@ -16,8 +16,10 @@ BUILTINS = set(
 )
 WORDS = (
     "type typing typing_extensions enum Enum IntEnum StrEnum Flag IntFlag Generic Protocol ABC ABCMeta namedtuple "
-    "NamedTuple TypedDict TYPE_CHECKING abstractmethod register mro elements open input version_info"
+    "NamedTuple TypedDict TYPE_CHECKING abstractmethod"
 ).split()
+NO_NAMES = "register mro elements open input version_info with_traceback add_note".split()
+METHODS = ["__init__"]
 
 
 def nodes(path):
@@ -70,10 +72,21 @@ class Language(unittest.TestCase):
         for path in FILES:
             for node in nodes(path):
                 for name in names_given(node):
-                    self.assertRegex(name, r"^[A-Za-z][A-Za-z0-9_]*$", path)
-                    self.assertFalse(hasattr(builtins, name), (path, name))
+                    if name not in METHODS:
+                        self.assertRegex(name, r"^[A-Za-z][A-Za-z0-9_]*$", path)
+                        self.assertFalse(hasattr(builtins, name), (path, name))
+                    self.assertNotIn(name, NO_NAMES, path)
+                if isinstance(node, ast.Attribute):
+                    self.assertNotIn(node.attr, NO_NAMES, path)
                 if isinstance(node, ast.Name) and hasattr(builtins, node.id):
                     self.assertIn(node.id, BUILTINS, path)
+
+    def test_no_local_name_is_an_imported_one(self):
+        for path in FILES:
+            given = [name for node in nodes(path) for name in names_given(node) if not isinstance(node, ast.alias)]
+            imported = [name for node in nodes(path) if isinstance(node, ast.alias) for name in names_given(node)]
+            self.assertFalse(set(given) & set(imported), path)
+            self.assertEqual(len(imported), len(set(imported)), path)
 
     def test_expressions(self):
         for path in FILES:

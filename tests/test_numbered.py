@@ -6,7 +6,7 @@ import unittest
 from nearplace.errors import NoKeep, NoNumber, NoOrder, NoReach, TooMany
 from nearplace.numbered import all_orders, next_order, nth_order, number_of
 from nearplace.stands import count_orders
-from tests.support import NO_NUMBERS, NO_ORDERS, NO_REACHES, REACHES, Case, is_kept, kept_orders
+from tests.support import NO_NUMBERS, NO_ORDERS, NO_REACHES, NO_WHOLES, REACHES, Case, is_kept, kept_orders
 
 BY_AN_ORDER = [number_of, next_order]
 
@@ -134,10 +134,9 @@ class Refusals(Case):
                 self.refuses(NoNumber, all_orders, thing, reach)
 
     def test_no_number_among_the_orders(self):
-        for thing in NO_NUMBERS:
-            if thing.__class__ != int:
-                for many in (0, 1, 3, 40):
-                    self.refuses(NoNumber, nth_order, many, (1, 1), thing)
+        for thing in NO_WHOLES:
+            for many in (0, 1, 3, 40):
+                self.refuses(NoNumber, nth_order, many, (1, 1), thing)
 
     def test_the_numbers_ahead_of_the_first_and_behind_the_last(self):
         for reach in REACHES:
@@ -182,7 +181,7 @@ class ListsOfTheAsker(Case):
 
     def test_no_two_told_are_one(self):
         told = all_orders(9, (2, 1)) + all_orders(9, (2, 1))
-        self.assertEqual(len(told), len({id(order) for order in told}))
+        self.no_two_are_one(told)
         self.assertIsNot(nth_order(4, (1, 1), 2), nth_order(4, (1, 1), 2))
         self.assertIsNot(next_order([0, 1], (1, 1)), next_order([0, 1], (1, 1)))
 
