@@ -210,8 +210,8 @@ class Enough(Case):
     def test_the_most_that_are_enough(self):
         # The most orders, the fewest sides and the least share: never are just three hundred needed.
         self.same(102, rolls_enough(40, (3, 3), 2, (1, 999999999999)))
-        # A share of 0 needs that the count goes into the number of all lists without a rest.
-        self.same(4, rolls_enough(11, (1, 1), 6, (0, 1)))
+        # A share of 0 needs that the count, 3136 here, goes into the number of all lists without a rest.
+        self.same(6, rolls_enough(14, (1, 2), 14, (0, 1)))
         self.assertIsNone(rolls_enough(40, (3, 3), 2, (0, 999999999999)))
 
 
