@@ -1,4 +1,4 @@
-"""Those rules of the language that can be seen file by file: L1, L2, L8, L10, L12, L14 to L17, L20 and L27."""
+"""Those rules of the language that can be seen file by file: L1 to L4, L8, L10, L12, L14 to L17, L20, L25 and L27."""
 
 import ast
 import builtins
@@ -20,6 +20,11 @@ WORDS = (
 ).split()
 NO_NAMES = "register mro elements open input version_info with_traceback add_note".split()
 METHODS = ["__init__"]
+METHODS_OF_VALUES = (
+    "append clear copy count endswith extend find get index insert isalnum isalpha isdigit islower isspace isupper items "
+    "join keys ljust lower lstrip partition pop remove replace reverse rfind rjust rpartition rsplit rstrip setdefault "
+    "split splitlines startswith strip update upper values zfill bit_length isascii isdecimal add"
+).split()
 
 
 def nodes(path):
@@ -37,6 +42,10 @@ def names_given(node):
     if isinstance(node, ast.Name) and not isinstance(node.ctx, ast.Load):
         return [node.id]
     return []
+
+
+def top_names(node):
+    return list(node.targets) if isinstance(node, ast.Assign) else []
 
 
 class Language(unittest.TestCase):
@@ -67,6 +76,40 @@ class Language(unittest.TestCase):
                 if isinstance(node, ast.ImportFrom):
                     self.assertEqual(0, node.level, path)
                     self.assertIn((PACKAGE / (node.module.removeprefix("nearplace.") + ".py")), FILES, path)
+
+    def test_imports_name_the_file_that_defines_and_go_in_no_circle(self):
+        imports, defined = {}, {}
+        for path in FILES:
+            tree = ast.parse(path.read_text())
+            found = [node for node in tree.body if isinstance(node, ast.ImportFrom)]
+            imports[path.stem] = {(node.module.removeprefix("nearplace."), each.name) for node in found for each in node.names}
+            given = [part for node in tree.body if not isinstance(node, ast.ImportFrom) for part in [node] + top_names(node)]
+            defined[path.stem] = {name for node in given for name in names_given(node)}
+        for name in imports:
+            self.assertTrue(all(each in defined[module] for module, each in imports[name]), name)
+        ahead = set()
+        while len(ahead) < len(imports):
+            free = {name for name in imports if {module for module, each in imports[name]} <= ahead} - ahead
+            self.assertTrue(free, imports)
+            ahead |= free
+
+    def test_module_level(self):
+        for path in FILES:
+            for at, node in enumerate(ast.parse(path.read_text()).body):
+                docstring = at == 0 and isinstance(node, ast.Expr) and isinstance(node.value, ast.Constant)
+                kinds = (ast.ImportFrom, ast.FunctionDef, ast.ClassDef, ast.Assign)
+                self.assertTrue(docstring or isinstance(node, kinds), (path, node.lineno))
+                if isinstance(node, ast.Assign):
+                    self.assertFalse([part for part in ast.walk(node.value) if isinstance(part, ast.Call)], path)
+
+    def test_methods_of_values(self):
+        own = {node.name for path in FILES for node in nodes(path) if isinstance(node, ast.FunctionDef)}
+        for path in FILES:
+            for node in nodes(path):
+                if isinstance(node, ast.FunctionDef):
+                    self.assertEqual([], node.decorator_list, path)
+                if isinstance(node, ast.Call) and isinstance(node.func, ast.Attribute):
+                    self.assertIn(node.func.attr, METHODS_OF_VALUES + sorted(own), (path, node.lineno))
 
     def test_names(self):
         for path in FILES:
